@@ -1,0 +1,1 @@
+"""Silencers: what webs of parts that silence one another can keep."""
