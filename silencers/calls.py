@@ -26,6 +26,13 @@ def behind_call(tied, bits, part):
     return bits & ~(1 << part)
 
 
+def behind_row(tied, bits, row):
+    found = bits
+    for part in row:
+        found = behind_call(tied, found, part)
+    return found
+
+
 def changed_by(tied, bits):
     """The parts, ascending, whose call changes the stand."""
     return [part for part in range(len(tied)) if behind_call(tied, bits, part) != bits]
@@ -47,11 +54,7 @@ def called_all(web, stand, row):
     check_stand(web, stand)
     if not is_row(web, row):
         raise NoRow()
-    tied = tied_bits(web)
-    bits = bits_of(stand)
-    for part in row:
-        bits = behind_call(tied, bits, part)
-    return lot_of(bits)
+    return lot_of(behind_row(tied_bits(web), bits_of(stand), row))
 
 
 def changers(web, stand):

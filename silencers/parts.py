@@ -19,19 +19,33 @@ def is_part(web, thing):
     return is_number(thing, 0, web.size - 1)
 
 
-def is_lot(web, thing):
+def is_lot_below(size, thing):
+    """Whether a thing is an ascending tuple of integers from 0 below size."""
     if not isinstance(thing, tuple):
         return False
     last = -1
     for part in thing:
-        if not is_part(web, part) or part <= last:
+        if not is_number(part, last + 1, size - 1):
             return False
         last = part
     return True
 
 
+def is_lot(web, thing):
+    return is_lot_below(web.size, thing)
+
+
+def is_pair(thing):
+    return isinstance(thing, tuple) and len(thing) == 2
+
+
 def check_number(thing, least, most):
     if not is_number(thing, least, most):
+        raise NoNumber()
+
+
+def check_number_from(thing, least):
+    if not is_integer(thing) or thing < least:
         raise NoNumber()
 
 
@@ -110,4 +124,27 @@ def pieces_of(tied, inside):
         piece = hanging(tied, left & -left, left)
         found.append(piece)
         left ^= piece
+    return found
+
+
+def tie_inside(tied, inside):
+    """A pair of tied parts inside, or None."""
+    for part in lot_of(inside):
+        both = tied[part] & inside
+        if both:
+            return (part, lot_of(both)[0])
+    return None
+
+
+def untied_to(tied, bits, inside):
+    """The parts inside that are neither of these bits nor tied to one of them, as bits."""
+    return inside & ~bits & ~tied_to_any(tied, bits)
+
+
+def grown(tied, bits, inside):
+    """These free parts with each part inside, the least first, that leaves them free, as bits."""
+    found = bits
+    for part in lot_of(untied_to(tied, bits, inside)):
+        if not tied[part] & found:
+            found |= 1 << part
     return found

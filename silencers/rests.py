@@ -2,8 +2,8 @@
 
 from silencers.calls import is_rest
 from silencers.errors import NoRest, TooMany
-from silencers.parts import bits_of, check_lot, check_number, how_many
-from silencers.parts import lot_of, pieces_of, tied_bits, tied_to_any
+from silencers.parts import all_bits, bits_of, check_lot, check_number, grown, how_many
+from silencers.parts import lot_of, pieces_of, tie_inside, tied_bits, tied_to_any
 from silencers.shapes import alike
 from silencers.webs import MOST_PARTS, beside, full, kept
 
@@ -153,9 +153,8 @@ class Tally:
         left_out = (free & ~bit, owed | bit)
         return ((bit, (chosen,)), (0, (left_out,)))
 
-    def all_rests(self):
-        """The knots of all rests."""
-        start = (self.every, 0)
+    def rests_of(self, start):
+        """The knots of all rests of a state."""
         self.worth(start)
         found = []
         waiting = [(0, (start,))]
@@ -227,11 +226,16 @@ def many_rests(web):
     return tally.worth_with(0, 0)
 
 
-def rests(web):
-    tally = Tally(web, False)
-    if tally.worth_with(0, 0) > MOST_RESTS:
+def all_of(tally, no):
+    """The ascending list of the rests in which these knots tell no: TooMany."""
+    start = tally.state_with(0, no)
+    if tally.worth(start) > MOST_RESTS:
         raise TooMany(MOST_RESTS)
-    return sorted([tally.parts_of(bits) for bits in tally.all_rests()])
+    return sorted([tally.parts_of(bits) for bits in tally.rests_of(start)])
+
+
+def rests(web):
+    return all_of(Tally(web, False), 0)
 
 
 def rest_at(web, number):
@@ -243,6 +247,11 @@ def rest_at(web, number):
 def check_rest(web, thing):
     if not is_rest(web, thing):
         raise NoRest()
+
+
+def check_few_rests(web, most):
+    if many_rests(web) > most:
+        raise TooMany(most)
 
 
 def rest_number(web, rest):
@@ -271,12 +280,9 @@ def held_by(web, lot):
     check_lot(web, lot)
     tied = tied_bits(web)
     bits = bits_of(lot)
-    if bits & tied_to_any(tied, bits):
+    if tie_inside(tied, bits) is not None:
         return None
-    for part in range(web.size):
-        if not tied[part] & bits:
-            bits |= 1 << part
-    return lot_of(bits)
+    return lot_of(grown(tied, bits, all_bits(web)))
 
 
 def rest_sizes(web):

@@ -207,7 +207,8 @@ def check_iterated(tree):
         around = called_name(parent)
         if name in ITERATED_AT_ONCE:
             in_loop = isinstance(parent, (ast.For, ast.comprehension)) and parent.iter is node
-            if not in_loop and not (around in ITERATING and parent.args[0] is node):
+            taken = around in ITERATING or around in LIBRARY["itertools"] and name not in LIBRARY["itertools"]
+            if not in_loop and not (taken and parent.args[0] is node):
                 yield "L23", node.lineno
         if name == "set" or isinstance(node, (ast.Set, ast.SetComp)):
             tested = isinstance(parent, ast.Compare) and isinstance(parent.ops[0], (ast.In, ast.NotIn, ast.Eq, ast.NotEq))

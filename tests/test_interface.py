@@ -18,8 +18,28 @@ FUNCTIONS = {
         "many_rests": 1, "rest_number": 2, "many_with": 3, "most_rests": 1, "rests": 1, "rest_at": 2,
         "smallest_rest": 1, "greatest_rest": 1, "held_by": 2, "is_fullest": 1, "fullest_web": 1, "rest_sizes": 1,
     },
+    "coming": {
+        "lumps": 2, "ends": 2, "can_come": 3, "is_row_to": 4, "is_two_ends": 3, "row_to": 3, "missed": 3, "sure_end": 2,
+        "two_ends": 2, "many_ends": 2, "most_changes": 2, "longest_row": 2,
+    },
+    "chances": {"end_chances": 2, "mean_calls": 2},
+    "helping": {"fewest_puts": 3, "puts": 3, "drift": 3},
+    "lists": {"shown": 2, "is_showing": 3, "is_lack": 2, "can_be_shown": 1, "lack": 1, "within": 1},
+    "making": {
+        "web_for": 1, "bare_web": 1, "fewest_hidden": 1, "closed_up": 1, "listed_both": 2, "listed_either": 2,
+        "side_by_side": 2, "seen_at": 2, "missing": 1,
+    },
+    "strokes": {
+        "course_end": 4, "stroke_ends": 3, "course_to": 4, "sure_stroke": 2, "two_courses": 2, "is_two_courses": 3,
+    },
+    "writing": {"fewest_held": 2, "sure_strokes": 2, "writing": 2, "is_writing": 3},
+    "stores": {"strokes_between": 3, "best_letters": 2, "is_store": 3},
+    "healing": {
+        "heals": 3, "is_harm": 4, "strength": 2, "harm": 3, "healing_web": 2, "slip": 3, "weakest": 1,
+    },
 }
 CLASSES = {
+    "lists": {"List": {"__init__": ["places", "stands"], "__eq__": ["other"]}},
     "webs": {"Web": {"__init__": ["size", "ties"], "__eq__": ["other"]}},
     "runs": {"Run": {
         "__init__": ["web", "stand"], "call": ["part"], "stand": [], "log": [], "changes": [], "back": ["many"],

@@ -1,9 +1,12 @@
 """What the tests share: things of every kind, webs, and plain ways to work things out."""
 
+from functools import lru_cache
 from itertools import combinations
 from random import Random
 
 from silencers.errors import BadWeb, NoPart, TooMany
+from silencers.lists import List
+from silencers.rests import rests
 from silencers.runs import Run
 from silencers.webs import Web, beside, copied, full, joined, put_in, ring, row
 
@@ -30,7 +33,8 @@ def things():
         (10 ** 59,), (-1,), len, nested_tuple, int, Web, NoPart, Ellipsis, NotImplemented, object(), iter([0]),
         (part for part in (0, 1)), nested_tuple(40), nested_tuple(39, (0,)), nested_list(40), nested_dict(40),
         (nested_list(39),), (0, nested_tuple(39)), BadWeb(0), NoPart(), TooMany(7), row(2), (row(2),), (0, row(2)),
-        Run(row(2), ()), (Run(row(2), ()),), {0: row(3)}, {"size": 2, "ties": ()},
+        Run(row(2), ()), (Run(row(2), ()),), {0: row(3)}, {"size": 2, "ties": ()}, List(2, ((0,), (1,))),
+        (List(1, ((),)),), ((0,), List(1, ((),))), [List(1, ((),))],
     ]
 
 
@@ -84,13 +88,18 @@ def big_webs():
     ]
 
 
-def near(web):
-    """The dict from parts to the sets of the parts tied to them."""
-    found = {part: set() for part in range(web.size)}
-    for a, b in web.ties:
+@lru_cache(maxsize=100)
+def near_by(size, ties):
+    found = {part: set() for part in range(size)}
+    for a, b in ties:
         found[a].add(b)
         found[b].add(a)
-    return found
+    return {part: frozenset(tied) for part, tied in found.items()}
+
+
+def near(web):
+    """The dict from parts to the sets of the parts tied to them."""
+    return near_by(web.size, web.ties)
 
 
 def all_lots(size):
@@ -106,6 +115,138 @@ def plain_rests(web):
     tied = near(web)
     return [lot for lot in all_lots(web.size)
             if all((part in lot) == (not tied[part] & set(lot)) for part in range(web.size))]
+
+
+def no_rows(size):
+    """What is no row of calls of a web of so many parts."""
+    wrong = [thing for thing in things() if thing not in ((), [])]
+    return wrong + [0, "-", (size,), [0, size], (-1,), [0, -1], {0: 0}, (0,) * 1001, [0] * 1001, ((0,), (0,))]
+
+
+def plain_called(web, stand, part):
+    """The stand behind a call, by the meaning of a call."""
+    tied = near(web)[part]
+    told = not [other for other in stand if other in tied]
+    return tuple(sorted(set(stand) - {part} | ({part} if told else set())))
+
+
+def plain_behind(web, stand, calls):
+    for part in calls:
+        stand = plain_called(web, stand, part)
+    return stand
+
+
+def plain_comes(web, stand, callable_parts=None):
+    """The dict from the stands that calls of these parts, of all if None, lead to, to how many calls it takes."""
+    parts = range(web.size) if callable_parts is None else callable_parts
+    found, edge = {stand: 0}, [stand]
+    for now in edge:
+        for part in parts:
+            behind = plain_called(web, now, part)
+            if behind not in found:
+                found[behind] = found[now] + 1
+                edge.append(behind)
+    return found
+
+
+def plain_ends(web, stand):
+    wanted = plain_rests(web)
+    return sorted(behind for behind in plain_comes(web, stand) if behind in wanted)
+
+
+def all_strokes(size):
+    """All strokes of a web of so many parts, ascending."""
+    lots = all_lots(size)
+    return [(up, down) for up in lots for down in lots if up + down and not set(up) & set(down)]
+
+
+def no_strokes(size):
+    """What is no stroke of a web of so many parts."""
+    wrong = no_lots(size)
+    return things() + [(lot, ()) for lot in wrong] + [((), lot) for lot in wrong] + [(lot, (0,)) for lot in wrong] + [
+        ((), ()), [(0,), ()], [(), (0,)], ((0,),), ((0,), (), ()), ((0,), (0,)), (0, ()), ((), 0), (0,), 0, (), [],
+        ((0,), [0]), ([0], ()), (tuple(range(size)), (0,)), ((size - 1,), tuple(range(size))),
+    ]
+
+
+def held_ends(web, rest, stroke):
+    """The stands that the hands may let go of, all rows of calls gone through."""
+    up, down = stroke
+    tied = near(web)
+    left = [part for part in range(web.size) if part not in up + down]
+    start = tuple(sorted(set(rest) - set(down) | set(up)))
+    return [stand for stand in plain_comes(web, start, left)
+            if all((part in stand) == (not tied[part] & set(stand)) for part in left)]
+
+
+def plain_stroke_ends(web, rest, stroke):
+    return sorted({end for stand in held_ends(web, rest, stroke) for end in plain_ends(web, stand)})
+
+
+class Strokes:
+    """The ends of all strokes of small webs in a plain way, each found once."""
+
+    def __init__(self, web):
+        self.web = web
+        self.rests = plain_rests(web)
+        self.ends = {}
+
+    def of(self, rest, stroke):
+        if (rest, stroke) not in self.ends:
+            self.ends[rest, stroke] = plain_stroke_ends(self.web, rest, stroke)
+        return self.ends[rest, stroke]
+
+    def of_all(self, rests_now, stroke):
+        return sorted({end for rest in rests_now for end in self.of(rest, stroke)})
+
+
+def plain_lumps(web, stand):
+    """The lumps by putting parts to parts that they are tied to."""
+    tied = near(web)
+    found = []
+    for part in stand:
+        joined = [lump for lump in found if tied[part] & set(lump)]
+        found = [lump for lump in found if lump not in joined]
+        found.append(tuple(sorted({part}.union(*joined))))
+    return sorted(found)
+
+
+def all_lists(most):
+    """Every list of one to so many places, most at 3."""
+    return [List(places, stands) for places in range(1, most + 1)
+            for many in range(1, 2 ** places + 1) for stands in combinations(all_lots(places), many)]
+
+
+def random_lists(places, many):
+    """Lists of so many places, some with a lack and about half without one."""
+    luck, found = Random(places), []
+    while len(found) < many:
+        stands = luck.sample(all_lots(places), luck.randrange(1, min(20, 2 ** places)))
+        found.append(List(places, tuple(sorted(stands))))
+        web = random_web(min(24, places + luck.randrange(5)), luck.randrange(2, 8), luck.randrange(1000))
+        stands = plain_shown(web, tuple(luck.sample(range(web.size), places)))
+        if len(stands) <= 64:
+            found.append(List(places, stands))
+    return found
+
+
+def plain_shown(web, showing):
+    """The stands that a web shows."""
+    wanted = plain_rests(web) if web.size < 9 else rests(web)
+    return tuple(sorted({tuple(place for place, part in enumerate(showing) if part in rest) for rest in wanted}))
+
+
+def plain_lack(one):
+    """The least lack by its meaning, or None."""
+    held = [set(stand) for stand in one.stands]
+    for place in range(one.places):
+        if not any(place in stand for stand in held):
+            return ("never", place)
+    for a, b, c in combinations(range(len(held)), 3):
+        places = {place for place in range(one.places) if (place in held[a]) + (place in held[b]) + (place in held[c]) > 1}
+        if not any(places <= stand for stand in held):
+            return ("three", a, b, c)
+    return None
 
 
 def same_web(case, web, size, ties):
