@@ -4,7 +4,7 @@ from silencers.calls import behind_call, behind_row, changed_by, is_row
 from silencers.errors import TooMany
 from silencers.parts import all_bits, bits_of, check_stand, grown, how_many, is_pair
 from silencers.parts import lot_of, pieces_of, tie_inside, tied_bits, tied_to_any, untied_to
-from silencers.rests import Tally, all_of, check_rest
+from silencers.rests import Tally, all_of, check_rest, every_one_of
 from silencers.webs import web_of_any_size
 
 MOST_TRIED = 12
@@ -105,8 +105,12 @@ class Ends:
     def many(self):
         return self.tally.worth_with(0, self.no)
 
+    def every_one(self):
+        """The ascending list of them, however many."""
+        return every_one_of(self.tally, self.no)
+
     def rests(self):
-        """The ascending list of them: TooMany."""
+        """As every_one: TooMany."""
         return all_of(self.tally, self.no)
 
 

@@ -2,11 +2,10 @@
 
 from silencers.calls import behind_row, changed_by, is_row
 from silencers.coming import end_with, row_between
-from silencers.errors import NoPart
 from silencers.making import web_for
-from silencers.parts import bits_of, check_number, check_number_from, check_part
-from silencers.parts import how_many, is_lot, is_pair, lot_of, tied_bits
-from silencers.rests import check_rest, rests
+from silencers.parts import bits_of, check_number, check_number_from, how_many
+from silencers.parts import is_lot, is_pair, lot_of, tied_bits
+from silencers.rests import check_part_beside, check_rest, rests
 from silencers.webs import copied
 
 MOST_FALLEN = 3
@@ -69,10 +68,7 @@ def is_harm(web, rest, many, thing):
 
 
 def slip(web, rest, part):
-    check_rest(web, rest)
-    check_part(web, part)
-    if part in rest:
-        raise NoPart()
+    check_part_beside(web, rest, part)
     return row_with(tied_bits(web), bits_of(rest) | (1 << part), part)
 
 

@@ -148,3 +148,13 @@ def grown(tied, bits, inside):
         if not tied[part] & found:
             found |= 1 << part
     return found
+
+
+def lead_and_length(first, step):
+    """The least numbers such that so many steps lead where length more of them lead."""
+    number = {}
+    now = first
+    while now not in number:
+        number[now] = len(number)
+        now = step(now)
+    return (number[now], len(number) - number[now])

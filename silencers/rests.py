@@ -1,8 +1,8 @@
 """The rests of a web: how many there are, which they are, and how many there can be."""
 
 from silencers.calls import is_rest
-from silencers.errors import NoRest, TooMany
-from silencers.parts import all_bits, bits_of, check_lot, check_number, grown, how_many
+from silencers.errors import NoPart, NoRest, TooMany
+from silencers.parts import all_bits, bits_of, check_lot, check_number, check_part, grown, how_many
 from silencers.parts import lot_of, pieces_of, tie_inside, tied_bits, tied_to_any
 from silencers.shapes import alike
 from silencers.webs import MOST_PARTS, beside, full, kept
@@ -226,12 +226,21 @@ def many_rests(web):
     return tally.worth_with(0, 0)
 
 
+def every_one_of(tally, no):
+    """The ascending list of the rests in which these knots tell no, however many."""
+    return sorted([tally.parts_of(bits) for bits in tally.rests_of(tally.state_with(0, no))])
+
+
 def all_of(tally, no):
-    """The ascending list of the rests in which these knots tell no: TooMany."""
-    start = tally.state_with(0, no)
-    if tally.worth(start) > MOST_RESTS:
+    """As every_one_of: TooMany."""
+    if tally.worth_with(0, no) > MOST_RESTS:
         raise TooMany(MOST_RESTS)
-    return sorted([tally.parts_of(bits) for bits in tally.rests_of(start)])
+    return every_one_of(tally, no)
+
+
+def every_rest(web):
+    """As rests, however many."""
+    return every_one_of(Tally(web, False), 0)
 
 
 def rests(web):
@@ -247,6 +256,14 @@ def rest_at(web, number):
 def check_rest(web, thing):
     if not is_rest(web, thing):
         raise NoRest()
+
+
+def check_part_beside(web, rest, part):
+    """Checks a rest and a part that is not of it: NoRest, NoPart."""
+    check_rest(web, rest)
+    check_part(web, part)
+    if part in rest:
+        raise NoPart()
 
 
 def check_few_rests(web, most):

@@ -42,6 +42,10 @@ def wrong_tie(size, ties):
     return None
 
 
+def tie_of(a, b):
+    return (min(a, b), max(a, b))
+
+
 def web_of_any_size(size, ties):
     """The web of these ties, in any order, each a pair of parts in either order.
 
@@ -50,7 +54,7 @@ def web_of_any_size(size, ties):
     """
     web = Web(1, ())
     web.size = size
-    web.ties = tuple(sorted([(min(a, b), max(a, b)) for a, b in ties]))
+    web.ties = tuple(sorted([tie_of(a, b) for a, b in ties]))
     return web
 
 
@@ -65,7 +69,7 @@ def ties_without(web, a, b):
     check_part(web, b)
     if a == b:
         raise NoPart()
-    pair = (min(a, b), max(a, b))
+    pair = tie_of(a, b)
     return [held for held in web.ties if held != pair]
 
 

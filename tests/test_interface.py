@@ -37,9 +37,19 @@ FUNCTIONS = {
     "healing": {
         "heals": 3, "is_harm": 4, "strength": 2, "harm": 3, "healing_web": 2, "slip": 3, "weakest": 1,
     },
+    "logs": {
+        "fits": 2, "behind": 1, "wrong_call": 2, "stuck_call": 1, "barred": 1, "choices": 1, "web_of": 1, "same_log": 3,
+    },
+    "sparse": {"sure_ties": 1, "open_ties": 1, "most_ties": 1, "sparse_web": 1, "fewest_ties": 1, "verdict": 2},
+    "nets": {
+        "net_called": 3, "net_rests": 1, "net_comes": 2, "odd_round": 1, "net_row": 3, "is_odd_round": 2, "net_of": 1,
+        "net_round": 2, "any_round": 1, "only_rest": 1, "is_any_round": 2,
+    },
+    "groups": {"called_at_once": 3, "restless": 1, "is_restless": 2, "at_once_end": 3},
 }
 CLASSES = {
     "lists": {"List": {"__init__": ["places", "stands"], "__eq__": ["other"]}},
+    "nets": {"Net": {"__init__": ["size", "arrows"], "__eq__": ["other"]}},
     "webs": {"Web": {"__init__": ["size", "ties"], "__eq__": ["other"]}},
     "runs": {"Run": {
         "__init__": ["web", "stand"], "call": ["part"], "stand": [], "log": [], "changes": [], "back": ["many"],

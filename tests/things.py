@@ -1,11 +1,12 @@
 """What the tests share: things of every kind, webs, and plain ways to work things out."""
 
 from functools import lru_cache
-from itertools import combinations
+from itertools import combinations, permutations, product
 from random import Random
 
 from silencers.errors import BadWeb, NoPart, TooMany
 from silencers.lists import List
+from silencers.nets import Net
 from silencers.rests import rests
 from silencers.runs import Run
 from silencers.webs import Web, beside, copied, full, joined, put_in, ring, row
@@ -34,7 +35,8 @@ def things():
         (part for part in (0, 1)), nested_tuple(40), nested_tuple(39, (0,)), nested_list(40), nested_dict(40),
         (nested_list(39),), (0, nested_tuple(39)), BadWeb(0), NoPart(), TooMany(7), row(2), (row(2),), (0, row(2)),
         Run(row(2), ()), (Run(row(2), ()),), {0: row(3)}, {"size": 2, "ties": ()}, List(2, ((0,), (1,))),
-        (List(1, ((),)),), ((0,), List(1, ((),))), [List(1, ((),))],
+        (List(1, ((),)),), ((0,), List(1, ((),))), [List(1, ((),))], Net(2, ((0, 1),)), (Net(1, ()),), [Net(1, ())],
+        (0, Net(1, ())), (2, (), Net(1, ())), ((0,), Net(1, ())),
     ]
 
 
@@ -247,6 +249,79 @@ def plain_lack(one):
         if not any(places <= stand for stand in held):
             return ("three", a, b, c)
     return None
+
+
+def plain_told(web, stand, part):
+    return not near(web)[part] & set(stand)
+
+
+def plain_log(web, stand, calls):
+    """The log of these calls, by the meaning of a call."""
+    told, now = [], stand
+    for part in calls:
+        told.append((part, plain_told(web, now, part)))
+        now = plain_called(web, now, part)
+    return (web.size, stand, tuple(told))
+
+
+def logged_stands(log):
+    """The stands ahead of each call of a log, and the one behind them all."""
+    found = [set(log[1])]
+    for part, told in log[2]:
+        found.append(found[-1] - {part} | ({part} if told else set()))
+    return [tuple(sorted(stand)) for stand in found]
+
+
+def plain_fits(web, log):
+    stands = logged_stands(log)
+    return web.size == log[0] and all(plain_told(web, stands[at], part) == told for at, (part, told) in enumerate(log[2]))
+
+
+def all_logs(size, most):
+    """All logs of so many parts and at most so many calls."""
+    calls = list(product(range(size), (False, True)))
+    return [(size, stand, row) for stand in all_lots(size) for many in range(most + 1)
+            for row in product(calls, repeat=many)]
+
+
+def random_logs(size, calls, many):
+    """Logs of so many calls, by turns of a web and of any flags, some of these with a web that fits."""
+    luck, found = Random(size * 1000 + calls), []
+    while len(found) < many:
+        web = random_web(size, luck.randrange(1, 9), luck.randrange(1000))
+        row = [luck.randrange(size) for _ in range(calls)]
+        stand = tuple(part for part in range(size) if luck.randrange(2))
+        found.append(plain_log(web, stand, row))
+        found.append((size, stand, tuple((part, luck.randrange(4) == 0) for part in row)))
+    return found[:many]
+
+
+def no_logs():
+    """What is no log."""
+    call = (0, True)
+    wrong = things() + [
+        (), (2,), (2, ()), (2, (), (), ()), [2, (), ()], [2, (), (call,)], (0, (), ()), (13, (), ()), (-1, (), ()),
+        (10 ** 59, (), ()), (True, (), ()), ("2", (), ()), (None, (), ()), ((2,), (), ()), ((), 2, ()), (2, (), None),
+        (2, (), []), (2, (), [call]), (2, (), {}), (2, (), "yes"), (2, (), call), (2, (), (call,) * 201), (1, (1,), ()),
+        (12, (12,), ()), (2, (), ((2, True),)), (12, (), ((12, False),)), (2, (), ((-1, True),)), (2, (), (call, (2, True))),
+    ]
+    wrong += [(2, lot, ()) for lot in no_lots(2)] + [(2, lot, (call,)) for lot in no_lots(2)]
+    wrong += [(2, (), (thing,)) for thing in things() + [(0,), (0, 1), (0, 0), (0, True, 1), [0, True], 0, True, ()]
+              if thing != call]
+    wrong += [(2, (), (call, (0, thing))) for thing in things() + [0, 1, "yes", "no", ()] if not isinstance(thing, bool)]
+    wrong += [(2, (), ((thing, False),)) for thing in no_parts(2)]
+    wrong += [(thing, (), ()) for thing in no_numbers() + things()]
+    return wrong
+
+
+def all_nets(size):
+    arrows = list(permutations(range(size), 2))
+    return [Net(size, found) for many in range(len(arrows) + 1) for found in combinations(arrows, many)]
+
+
+def random_net(size, tenths, seed):
+    luck = Random(seed)
+    return Net(size, tuple(pair for pair in permutations(range(size), 2) if luck.randrange(10) < tenths))
 
 
 def same_web(case, web, size, ties):
