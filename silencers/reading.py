@@ -40,10 +40,15 @@ def check_closed(text):
         raise BadText(len(lines))
 
 
-def size_of(line):
-    """The number of parts that a first line tells, or None."""
-    word, _, rest_of_line = line.partition(" ")
-    return number_of(rest_of_line) if word == "parts" else None
+def number_behind(word, line):
+    """The number that the line tells behind this word, or None."""
+    ahead, _, behind = line.partition(" ")
+    return number_of(behind) if ahead == word else None
+
+
+def lot_in(line):
+    """The tuple of the numbers of a lot as lot_text tells it, ascending or not, or None."""
+    return () if line == "-" else numbers_of(line)
 
 
 def pair_of(line):
@@ -56,7 +61,7 @@ def read_web(text):
     check_string(text)
     found = []
     for at, line in enumerate(closed_lines(text)):
-        told = pair_of(line) if at else size_of(line)
+        told = pair_of(line) if at else number_behind("parts", line)
         if told is None:
             raise BadText(at + 1)
         found.append(told)
@@ -66,9 +71,7 @@ def read_web(text):
 
 def read_lot(text):
     check_string(text)
-    if text == "-":
-        return ()
-    found = numbers_of(text)
+    found = lot_in(text)
     if found is None:
         raise BadText(1)
     return found

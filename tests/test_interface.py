@@ -2,6 +2,7 @@
 
 import ast
 import unittest
+from functools import lru_cache
 from pathlib import Path
 
 PACKAGE = Path(__file__).resolve().parent.parent / "silencers"
@@ -46,8 +47,26 @@ FUNCTIONS = {
         "net_round": 2, "any_round": 1, "only_rest": 1, "is_any_round": 2,
     },
     "groups": {"called_at_once": 3, "restless": 1, "is_restless": 2, "at_once_end": 3},
+    "listtexts": {"list_text": 1, "log_text": 1, "read_list": 1, "read_log": 1},
+    "apart": {
+        "building": 1, "is_building": 2, "is_built": 1, "rests_by": 1, "blocks": 1, "turned_by": 3, "taken_out": 2,
+        "needs": 3,
+    },
+    "strangers": {"led": 4, "led_end": 3, "lazy": 2},
+}
+ERRORS = {
+    "WebError": None, "BadWeb": ["part"], "NoPart": [], "NoNames": [], "NoLot": [], "NoNumber": [], "BadText": ["line"],
+    "NoStand": [], "NoRow": [], "NoRest": [], "TooMany": ["most"], "BadList": ["part"], "NoShowing": [], "NotShown": [],
+    "OtherPlaces": [], "NoStands": [], "NoStroke": [], "NoCourse": [], "NoLetters": [], "NoLog": [], "OtherSize": [],
+    "NoWeb": [], "BadNet": ["part"], "NoBlock": [], "NothingDone": [], "BadCall": ["stand"], "NoLine": [],
+    "NoName": ["name"],
 }
 CLASSES = {
+    "boards": {"Board": {
+        "__init__": ["web"], "tie": ["a", "b"], "untie": ["a", "b"], "put": ["part"], "drop": ["part"], "call": ["part"],
+        "web": [], "stand": [], "changers": [], "ends": [], "back": [], "deeds": [], "copy": [],
+    }},
+    "desks": {"Desk": {"__init__": [], "tell": ["line"], "undoable": []}},
     "lists": {"List": {"__init__": ["places", "stands"], "__eq__": ["other"]}},
     "nets": {"Net": {"__init__": ["size", "arrows"], "__eq__": ["other"]}},
     "webs": {"Web": {"__init__": ["size", "ties"], "__eq__": ["other"]}},
@@ -58,6 +77,7 @@ CLASSES = {
 }
 
 
+@lru_cache(maxsize=100)
 def defined(module, kind):
     tree = ast.parse((PACKAGE / f"{module}.py").read_text("utf-8"))
     return {node.name: node for node in tree.body if isinstance(node, kind)}
@@ -83,6 +103,22 @@ class Interface(unittest.TestCase):
                 inside = {node.name: node for node in found[name].body if isinstance(node, ast.FunctionDef)}
                 for method, wanted in methods.items():
                     self.assertEqual(names_of(inside[method])[1:], wanted, (name, method))
+
+    def test_errors(self):
+        found = defined("errors", ast.ClassDef)
+        self.assertEqual(sorted(found), sorted(ERRORS))
+        for name, wanted in ERRORS.items():
+            self.assertEqual([base.id for base in found[name].bases], ["WebError" if wanted is not None else "ValueError"])
+            made = [node for node in found[name].body if isinstance(node, ast.FunctionDef)]
+            self.assertEqual([names_of(node)[1:] for node in made], [] if wanted is None else [wanted], name)
+
+    def test_no_name_is_defined_in_two_files(self):
+        listed = [name for names in list(FUNCTIONS.values()) + list(CLASSES.values()) for name in names]
+        self.assertEqual(len(listed), len(set(listed)))
+        files = [path.stem for path in PACKAGE.glob("*.py")]
+        kinds = (ast.FunctionDef, ast.ClassDef)
+        for name in listed:
+            self.assertEqual(len([stem for stem in files if name in defined(stem, kinds)]), 1, name)
 
 
 if __name__ == "__main__":

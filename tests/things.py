@@ -4,6 +4,8 @@ from functools import lru_cache
 from itertools import combinations, permutations, product
 from random import Random
 
+from silencers.boards import Board
+from silencers.desks import Desk
 from silencers.errors import BadWeb, NoPart, TooMany
 from silencers.lists import List
 from silencers.nets import Net
@@ -36,7 +38,7 @@ def things():
         (nested_list(39),), (0, nested_tuple(39)), BadWeb(0), NoPart(), TooMany(7), row(2), (row(2),), (0, row(2)),
         Run(row(2), ()), (Run(row(2), ()),), {0: row(3)}, {"size": 2, "ties": ()}, List(2, ((0,), (1,))),
         (List(1, ((),)),), ((0,), List(1, ((),))), [List(1, ((),))], Net(2, ((0, 1),)), (Net(1, ()),), [Net(1, ())],
-        (0, Net(1, ())), (2, (), Net(1, ())), ((0,), Net(1, ())),
+        (0, Net(1, ())), (2, (), Net(1, ())), ((0,), Net(1, ())), Board(row(2)), (Board(row(2)),), Desk(), (0, Desk()),
     ]
 
 
