@@ -147,18 +147,18 @@ def going_on(near, stands):
     """
     behind = {bits: [behind_call(near, bits, part) for part in changed_by(near, bits)] for bits in stands}
     ahead = {bits: [] for bits in behind}
-    for bits, found in behind.items():
-        for one in found:
-            ahead[one].append(bits)
-    left = {bits: len(found) for bits, found in behind.items()}
+    for start, found in behind.items():
+        for end in found:
+            ahead[end].append(start)
+    left = {bits: len(behind[bits]) for bits in behind}
     waiting = [bits for bits in left if not left[bits]]
     while waiting:
         still = waiting.pop()
-        for one in ahead[still]:
-            left[one] -= 1
-            if not left[one]:
-                waiting.append(one)
-    return {bits: [one for one in behind[bits] if left[one]] for bits in behind if left[bits]}
+        for start in ahead[still]:
+            left[start] -= 1
+            if not left[start]:
+                waiting.append(start)
+    return {bits: [other for other in behind[bits] if left[other]] for bits in behind if left[bits]}
 
 
 def coming_again(near, stands):
